@@ -1,0 +1,1 @@
+"""Callwheel: street boxes on one wire, whose rounds never mix, and the crews that go."""

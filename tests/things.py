@@ -1,0 +1,51 @@
+"""What the tests share: all numbers, their rows by the document's words, and any things."""
+
+from itertools import product
+
+SIGNS = [chr(code) for code in range(ord(" "), ord("~") + 1)]
+
+
+def texts_of_figures(most):
+    return ["".join(figures) for many in range(1, most + 1) for figures in product("123456789", repeat=many)]
+
+
+def figures_together(text):
+    return sum(int(figure) for figure in text)
+
+
+def told_number(thing):
+    """Whether a thing is a number by the words of [4], read once more."""
+    if type(thing) is not str or len(thing) not in (1, 2, 3, 4):
+        return False
+    return set(thing) <= set("123456789") and figures_together(thing) <= 24
+
+
+def told_row(text):
+    ticks = ()
+    for figure in text:
+        ticks += (1, 0) * int(figure) + (0, 0)
+    return ticks + (0, 0)
+
+
+NUMBERS = [text for text in texts_of_figures(4) if figures_together(text) <= 24]
+ROWS = {told_row(number): number for number in NUMBERS}
+SOME_NUMBERS = sorted(set(NUMBERS[:90] + NUMBERS[::41] + ["9951", "6666", "1599", "996"]))
+
+
+def wrapped(thing, deep, kind):
+    for _ in range(deep):
+        thing = kind([thing])
+    return thing
+
+
+OTHER_KINDS = [
+    0, 1, 2, -1, 12, 24, 58, 10 ** 30 - 1, 1 - 10 ** 30, True, False, None,
+    (), [], (1,), [1], ("12",), ["12"], ("1", "2"), ["1", "2"], (None,), [None], (True,), [False], ((),), [[]], ([],),
+    ("12", ["12"]), [("12",), "12"], (1, [0, (0, [0])]), ((1, 0, 0, 0, 0, 0),), [(1, 0, 0, 0, 0, 0)],
+    wrapped("12", 10, tuple), wrapped("12", 10, list), wrapped([], 9, tuple), wrapped((), 9, list),
+    tuple(["12"] * 2999), ["12"] * 2999, tuple([0] * 2999), tuple([[]] * 2999), ((("1",),), 1, 1), [[["1"]], 1, 1],
+]
+WRONG_TEXTS = [
+    "", " ", "0", "a", "-1", "+1", "1 ", " 1", "1_1", "1.0", "x", "None", "True", "()", "('1',)", "10", "01", "120", "997",
+    "9997", "99991", "12345", "11111", "1" * 1000, "~" * 1000,
+]
