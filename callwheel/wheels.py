@@ -6,6 +6,8 @@ FIGURES = "123456789"
 MOST_FIGURES = 4
 MOST_TOGETHER = 24
 MOST_TICKS = 58
+# So many ticks at the end of each row are closed.
+QUIET_END = 5
 
 
 def is_number(thing):
@@ -55,3 +57,8 @@ def goes_ahead(one, other):
     # Where two rows first differ, the one with 1 has the greater figure there, or a figure
     # more behind alike ones; so the rows are ordered just as the texts are.
     return one > other
+
+
+def ahead_of_all(numbers):
+    """The one of unlike numbers, one at least, that goes ahead of all others."""
+    return max(numbers)

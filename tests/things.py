@@ -1,6 +1,8 @@
-"""What the tests share: all numbers, their rows by the document's words, and any things."""
+"""What the tests share: all numbers, their rows by the document's words, a wire tick by tick, and any things."""
 
 from itertools import product
+
+from callwheel.boxes import box_behind, box_breaks, box_pulled, box_started, box_wound, new_box
 
 SIGNS = [chr(code) for code in range(ord(" "), ord("~") + 1)]
 
@@ -49,3 +51,36 @@ WRONG_TEXTS = [
     "", " ", "0", "a", "-1", "+1", "1 ", " 1", "1_1", "1.0", "x", "None", "True", "()", "('1',)", "10", "01", "120", "997",
     "9997", "99991", "12345", "11111", "1" * 1000, "~" * 1000,
 ]
+
+
+class Wire:
+    """Boxes on one wire that is neither cut nor held by a key, walked tick by tick with the program's boxes."""
+
+    def __init__(self, numbers, rounds, spring=50, quiet=12):
+        self.rounds = rounds
+        self.spring = spring
+        self.boxes = {number: new_box(spring)[:4] + (quiet,) for number in numbers}
+        self.tape = []
+
+    def pull(self, number):
+        self.boxes[number] = box_pulled(self.boxes[number], self.rounds)
+
+    def wind(self, number):
+        self.boxes[number] = box_wound(self.boxes[number], self.spring)
+
+    def tick(self):
+        """One tick; tells (number, tick of its first break) of each box whose round came whole at it."""
+        started = {number: box_started(box) for number, box in self.boxes.items()}
+        broken = any(box_breaks(box, number) for number, box in started.items())
+        self.boxes = {number: box_behind(box, number, broken) for number, box in started.items()}
+        self.tape.append(int(broken))
+        return [
+            (len(self.tape) - len(told_row(number)), number)
+            for number, box in started.items() if self.boxes[number][0] < box[0]
+        ]
+
+    def ticks(self, many):
+        return [whole for _ in range(many) for whole in self.tick()]
+
+    def is_idle(self):
+        return all(box[0] == 0 for box in self.boxes.values())
