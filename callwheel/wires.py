@@ -17,6 +17,15 @@ def loop_parts(loop, stretches):
     return (loop[:stretches[0]], loop[stretches[-1]:])
 
 
+def end_parts(town, cuts, joined):
+    """For each loop a tuple of the parts of wire that its near and its far end are of."""
+    if joined:
+        whole = wire_parts(town, cuts, True)[0]
+        return tuple((whole, whole) for loop in town[0])
+    parts = [loop_parts(loop, stretches) for loop, stretches in zip(town[0], cuts)]
+    return tuple((ends[0], ends[-1]) for ends in parts)
+
+
 def dumb_numbers(town, cuts):
     """The numbers of the dumb boxes, a tuple, loop by loop in the order of the wire."""
     return tuple(number for loop, stretches in zip(town[0], cuts) for number in loop_dumb(loop, stretches))

@@ -18,6 +18,21 @@ BARRED = re.compile(
     r"NamedTuple|TypedDict|TYPE_CHECKING|abstractmethod)\b|dataclass|overload|contextmanager"
 )
 
+# L25, both lists; those of bytes are not used.
+METHODS = set(
+    "append clear copy count endswith extend find get index insert isalnum isalpha isdigit islower isspace isupper items "
+    "join keys ljust lower lstrip partition pop remove replace reverse rfind rjust rpartition rsplit rstrip setdefault "
+    "split splitlines startswith strip update upper values zfill bit_length title capitalize swapcase casefold center "
+    "expandtabs removeprefix removesuffix rindex isascii isdecimal isnumeric istitle isidentifier isprintable".split()
+)
+# What each class of the interface has; each stands in the class itself.
+LINE_METHODS = "pull wind cut mend join part clear tick clock box near_tape far_tape cuts is_joined"
+WATCH_METHODS = "back crew calls"
+INTERFACE = {
+    "Line": LINE_METHODS,
+    "Watch": WATCH_METHODS + " heard",
+}
+
 
 def sources():
     return [(path.name, path.read_text("utf-8")) for path in sorted(PACKAGE.glob("*.py"))]
@@ -32,6 +47,23 @@ def bound_names():
     names = [(name, node.id) for name, node in nodes(ast.Name) if isinstance(node.ctx, ast.Store)]
     names += [(name, node.arg) for name, node in nodes(ast.arg)]
     return names + [(name, node.name) for name, node in nodes((ast.FunctionDef, ast.ClassDef))]
+
+
+def own_methods():
+    """For each class of the package the names of its methods."""
+    return {
+        node.name: [part.name for part in node.body if isinstance(part, ast.FunctionDef)] for _, node in nodes(ast.ClassDef)
+    }
+
+
+def own_attributes():
+    """All attributes that are assigned somewhere."""
+    return {node.attr for _, node in nodes(ast.Attribute) if isinstance(node.ctx, ast.Store)}
+
+
+def imports_of(text):
+    """The modules of the package that a file imports from."""
+    return [node.module.split(".")[1] for node in ast.walk(ast.parse(text)) if isinstance(node, ast.ImportFrom)]
 
 
 class Language(unittest.TestCase):
@@ -82,6 +114,61 @@ class Language(unittest.TestCase):
             if isinstance(node.value, str):
                 self.assertNotIn("%", node.value, name)
         self.assertEqual(nodes(ast.Div), [])
+
+    def test_is_stands_beside_none_and_truths_alone(self):
+        for name, node in nodes(ast.Compare):
+            for sign, other in zip(node.ops, node.comparators):
+                if isinstance(sign, (ast.Is, ast.IsNot)):
+                    self.assertIsInstance(other, ast.Constant, (name, node.lineno))
+
+    def test_names_are_bound_once_in_a_file(self):
+        for name, text in sources():
+            bound = []
+            for part in ast.parse(text).body:
+                if isinstance(part, ast.ImportFrom):
+                    bound += [wanted.name for wanted in part.names]
+                elif isinstance(part, ast.Assign):
+                    bound += [target.id for target in part.targets]
+                elif isinstance(part, (ast.FunctionDef, ast.ClassDef)):
+                    bound.append(part.name)
+            self.assertEqual(len(set(bound)), len(bound), name)
+
+    def test_no_local_name_is_one_of_an_import_or_a_class(self):
+        for name, text in sources():
+            tree = ast.parse(text)
+            taken = {wanted.name for node in ast.walk(tree) if isinstance(node, ast.ImportFrom) for wanted in node.names}
+            taken |= {node.name for node in tree.body if isinstance(node, ast.ClassDef)}
+            for node in ast.walk(tree):
+                if isinstance(node, ast.Name) and isinstance(node.ctx, ast.Store):
+                    self.assertNotIn(node.id, taken, (name, node.lineno))
+                if isinstance(node, ast.arg):
+                    self.assertNotIn(node.arg, taken, (name, node.lineno))
+
+    def test_no_two_files_import_from_each_other(self):
+        left = {name[:-3]: imports_of(text) for name, text in sources()}
+        while left:
+            free = [name for name, wanted in left.items() if not any(other in left for other in wanted)]
+            self.assertTrue(free, left)
+            for name in free:
+                del left[name]
+
+    def test_methods_and_attributes(self):
+        methods = {name for names in own_methods().values() for name in names}
+        attributes = own_attributes()
+        self.assertEqual(methods & attributes, set())
+        for name, text in sources():
+            parts = list(ast.walk(ast.parse(text)))
+            called = [part.func for part in parts if isinstance(part, ast.Call)]
+            for part in parts:
+                if isinstance(part, ast.Attribute):
+                    allowed = methods | METHODS if part in called else attributes
+                    self.assertIn(part.attr, allowed, (name, part.lineno))
+
+    def test_the_interfaces_methods_stand_in_their_classes(self):
+        methods = own_methods()
+        for name, listed in INTERFACE.items():
+            self.assertEqual(set(listed.split()) - set(methods[name]), set(), name)
+            self.assertEqual(len(set(methods[name])), len(methods[name]), name)
 
 
 if __name__ == "__main__":
