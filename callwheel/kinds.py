@@ -15,3 +15,13 @@ def is_whole_within(thing, low, high):
 def is_tuple_within(thing, low, high):
     """Whether the thing is a tuple of low to high things, whatever these are."""
     return isinstance(thing, tuple) and low <= len(thing) <= high
+
+
+def is_same(told, thing):
+    """Whether any thing is the same as what is told, of whole numbers, texts and tuples of these."""
+    if isinstance(told, tuple):
+        if not isinstance(thing, tuple) or len(thing) != len(told):
+            return False
+        return all(is_same(part, other) for part, other in zip(told, thing))
+    # Python has True equal to 1 and False equal to 0.
+    return told == thing and not isinstance(thing, bool)

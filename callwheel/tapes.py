@@ -7,7 +7,6 @@ CLOSED = 0
 BROKEN = 1
 KEY = 2
 MOST_SIGNS = 6000
-ENDING = (CLOSED,) * QUIET_END
 
 
 def is_tape(thing):
@@ -63,7 +62,7 @@ def piece_told(tape, at, end):
         return ("key", len(signs))
     if signs[0] == CLOSED:
         return ("quiet", len(signs))
-    if signs[-QUIET_END:] == ENDING:
+    if signs[-QUIET_END:] == (CLOSED,) * QUIET_END:
         number = number_of(signs)
         return ("odd", len(signs)) if number is None else ("round", number)
     return ("spoilt" if end < len(tape) else "begun", len(signs))

@@ -2,7 +2,7 @@
 
 import unittest
 
-from callwheel.kinds import is_tuple_within, is_whole, is_whole_within
+from callwheel.kinds import is_same, is_tuple_within, is_whole, is_whole_within
 from things import OTHER_KINDS, WRONG_TEXTS
 
 
@@ -30,6 +30,13 @@ class Kinds(unittest.TestCase):
         self.assertEqual(told, [2, 3, 4])
         for thing in OTHER_KINDS + WRONG_TEXTS:
             self.assertIs(is_tuple_within(thing, 0, 3000), type(thing) is tuple)
+
+    def test_the_same(self):
+        things = OTHER_KINDS + WRONG_TEXTS + [(0, ("a", (1,))), (0, ("a", (True,))), (False, ("a", (1,)))]
+        for told in (0, 1, -1, "", "12", (), (1,), ("12",), (0, ("a", (1,))), ((),)):
+            for thing in things + [told]:
+                # Texts of things tell True from 1 and lists from tuples.
+                self.assertIs(is_same(told, thing), repr(told) == repr(thing), (told, thing))
 
 
 if __name__ == "__main__":

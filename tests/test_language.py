@@ -31,6 +31,8 @@ WATCH_METHODS = "back crew calls"
 INTERFACE = {
     "Line": LINE_METHODS,
     "Watch": WATCH_METHODS + " heard",
+    "Office": LINE_METHODS + " " + WATCH_METHODS + " book",
+    "Desk": "say",
 }
 
 

@@ -4,7 +4,7 @@ import copy
 import unittest
 from itertools import combinations, product
 
-from callwheel.wires import dumb_numbers, wire_parts
+from callwheel.wires import dumb_numbers, end_parts, wire_parts
 from things import NUMBERS
 
 LOOPS = (("12", "3", "4567"), ("1",), ("21", "996"), ("6666", "13"))
@@ -163,6 +163,18 @@ class DumbNumbers(unittest.TestCase):
             told = dumb_numbers(town, cuts)
             self.assertIs(type(told), tuple)
             self.assertEqual(told, dumb, cuts)
+
+
+class EndParts(unittest.TestCase):
+    def test_near_and_far_part_of_each_loop(self):
+        for town, cuts in CASES:
+            ends = tuple((told_near(loop, cut), told_far(loop, cut)) for loop, cut in zip(town[0], cuts))
+            self.assertEqual(end_parts(town, cuts, False), ends, cuts)
+
+    def test_of_a_joined_town_the_one_part(self):
+        for town, cuts in CASES:
+            (whole,) = wire_parts(town, cuts, True)
+            self.assertEqual(end_parts(town, cuts, True), ((whole, whole),) * len(town[0]), cuts)
 
 
 class PartsAndDumb(unittest.TestCase):

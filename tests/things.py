@@ -2,6 +2,7 @@
 
 from itertools import product
 
+from callwheel import errors
 from callwheel.boxes import box_behind, box_breaks, box_pulled, box_started, box_wound, new_box
 
 SIGNS = [chr(code) for code in range(ord(" "), ord("~") + 1)]
@@ -32,6 +33,14 @@ def told_row(text):
 NUMBERS = [text for text in texts_of_figures(4) if figures_together(text) <= 24]
 ROWS = {told_row(number): number for number in NUMBERS}
 SOME_NUMBERS = sorted(set(NUMBERS[:90] + NUMBERS[::41] + ["9951", "6666", "1599", "996"]))
+
+
+def told_or_refused(call, *things):
+    """What a call tells, or the class of its refusal."""
+    try:
+        return call(*things)
+    except errors.WheelError as refusal:
+        return type(refusal)
 
 
 def wrapped(thing, deep, kind):

@@ -2,6 +2,15 @@
 
 from collections import Counter
 
+SOME_HOUSES = (0, 1, 1, 2)
+SOME_CARDS = (("12", (0, 3), (1, 1, 1), ((2, 0), (1, 2))), ("1", (3, 1), (2, 1, 0), ((2, 2),)))
+# Two things that are no houses and cards.
+NO_CARDS = [
+    ((), ()), ((9,), ()), ((True,), ()), ([0], ()), (0, ()), (None, None), (SOME_HOUSES, list(SOME_CARDS)),
+    (SOME_HOUSES, SOME_CARDS + SOME_CARDS), (SOME_HOUSES[:3], SOME_CARDS), (SOME_CARDS, SOME_HOUSES),
+    (SOME_HOUSES, (("0", (), (0, 0, 0), ()),)),
+]
+
 
 class WatchTable:
     """What [18] and [19] say of a watch, read once more."""
