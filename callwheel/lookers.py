@@ -2,7 +2,7 @@
 
 from callwheel.crews import Watch
 from callwheel.errors import NoCall
-from callwheel.kinds import is_same, is_tuple_within, is_whole, is_whole_within
+from callwheel.kinds import is_same, is_whole, is_whole_within
 from callwheel.offices import OUTCOMES, back_line, call_lines
 from callwheel.tapes import rounds_on
 from callwheel.towns import spot_of

@@ -146,6 +146,14 @@ class Language(unittest.TestCase):
                 if isinstance(node, ast.arg):
                     self.assertNotIn(node.arg, taken, (name, node.lineno))
 
+    def test_each_import_is_used(self):
+        for name, text in sources():
+            parts = list(ast.walk(ast.parse(text)))
+            used = {part.id for part in parts if isinstance(part, ast.Name)}
+            for part in parts:
+                if isinstance(part, ast.ImportFrom):
+                    self.assertEqual({wanted.name for wanted in part.names} - used, set(), name)
+
     def test_no_two_files_import_from_each_other(self):
         left = {name[:-3]: imports_of(text) for name, text in sources()}
         while left:
